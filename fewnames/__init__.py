@@ -1,0 +1,1 @@
+"""Fewnames: new names from a short list."""

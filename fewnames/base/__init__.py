@@ -1,0 +1,1 @@
+"""Rounds and runs."""

@@ -1,0 +1,78 @@
+"""The names, modules and parameters that the interface lists."""
+
+import importlib
+import inspect
+import unittest
+
+FUNCTIONS = {
+    "fewnames.base.rounds": {
+        "is_threads": ["value"], "all_rounds": ["threads"], "round_count": ["size"],
+    },
+    "fewnames.base.runs": {
+        "all_runs": ["threads", "length"], "run_count": ["size", "length"], "lined_run": ["order", "length"],
+        "joint_run": ["threads", "length"],
+    },
+}
+CLASSES = {
+    ("fewnames.base.rounds", "Round"): {
+        "__init__": ["blocks"], "sees": ["thread"], "block_of": ["thread"], "without": ["thread"], "moved": ["thread"],
+        "is_seen": ["thread"], "renamed": ["names"], "__contains__": ["value"], "__iter__": [], "__len__": [],
+        "__eq__": ["other"], "__str__": [],
+    },
+    ("fewnames.base.runs", "Run"): {
+        "__init__": ["threads", "rounds"], "with_round": ["extra"], "shortened": ["length"], "without": ["thread"],
+        "known": ["thread"], "is_hidden": ["thread"], "renamed": ["names"], "__getitem__": ["index"], "__iter__": [],
+        "__len__": [], "__eq__": ["other"], "__str__": [],
+    },
+}
+PROPERTIES = {
+    ("fewnames.base.rounds", "Round"): ["blocks", "threads", "sign"],
+    ("fewnames.base.runs", "Run"): ["threads", "rounds", "sign"],
+}
+CONSTANTS = {"fewnames.base.rounds": {"MAX_THREADS": 5}, "fewnames.base.runs": {"MAX_ROUNDS": 6}}
+
+
+def parameters_of(function):
+    """The names of the parameters, which all are positional and have no default value."""
+    found = list(inspect.signature(function).parameters.values())
+    for one in found:
+        assert one.kind == one.POSITIONAL_OR_KEYWORD and one.default is one.empty
+    return [one.name for one in found]
+
+
+class InterfaceTest(unittest.TestCase):
+    def test_functions(self):
+        for module, functions in FUNCTIONS.items():
+            for name, parameters in functions.items():
+                with self.subTest(module, name=name):
+                    function = getattr(importlib.import_module(module), name)
+                    self.assertEqual(function.__module__, module)
+                    self.assertEqual(parameters_of(function), parameters)
+
+    def test_generators(self):
+        for module, name in (("fewnames.base.rounds", "all_rounds"), ("fewnames.base.runs", "all_runs")):
+            self.assertTrue(inspect.isgeneratorfunction(getattr(importlib.import_module(module), name)))
+
+    def test_methods_stand_in_the_class_itself(self):
+        for (module, name), methods in CLASSES.items():
+            shown = getattr(importlib.import_module(module), name)
+            self.assertEqual(shown.__module__, module)
+            for method, parameters in methods.items():
+                with self.subTest(name, method=method):
+                    self.assertIn(method, vars(shown))
+                    self.assertEqual(parameters_of(vars(shown)[method])[1:], parameters)
+
+    def test_properties(self):
+        for (module, name), properties in PROPERTIES.items():
+            for one in properties:
+                with self.subTest(name, one=one):
+                    self.assertIsInstance(vars(getattr(importlib.import_module(module), name))[one], property)
+
+    def test_constants(self):
+        for module, constants in CONSTANTS.items():
+            for name, value in constants.items():
+                self.assertEqual(getattr(importlib.import_module(module), name), value)
+
+
+if __name__ == "__main__":
+    unittest.main()
