@@ -116,6 +116,19 @@ class LookingTest(unittest.TestCase):
                     getattr(APART, method)(value)
                 self.assertIs(caught.exception.given, value)
 
+    def test_a_round_that_was_asked_answers_as_a_new_one(self):
+        for one in rounds_of_all_sizes():
+            for thread in one.threads:
+                one.sees(thread), one.block_of(thread), one.is_seen(thread)
+            for value in (True, False, None, "4", 4.5, [4], (4,), {}, 5, -1, TOO_LONG):
+                for method in (one.sees, one.block_of, one.is_seen, one.without, one.moved):
+                    self.assertRaises(InvalidNumber, method, value)
+            for thread in one.threads:
+                new = Round(one.blocks)
+                self.assertEqual(
+                    [one.sees(thread), one.block_of(thread), one.is_seen(thread)],
+                    [new.sees(thread), new.block_of(thread), new.is_seen(thread)])
+
     def test_no_thread_comes_ahead_of_the_only_one(self):
         only = Round(((1,),))
         for method in ("without", "moved"):

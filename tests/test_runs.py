@@ -244,7 +244,7 @@ class RowTest(unittest.TestCase):
 
 class AllRunsTest(unittest.TestCase):
     def test_all_runs_in_their_order(self):
-        for threads, most in (((4,), 6), ((2, 5), 4), ((0, 1, 2), 2), ((0, 3, 4, 9), 1)):
+        for threads, most in (((4,), 6), ((2, 5), 6), ((0, 1, 2), 3), ((0, 3, 4, 9), 2), ((0, 1, 2, 3, 4), 1)):
             rows = plain_rows(threads)
             for length in range(most + 1):
                 found = [tuple(one.blocks for one in run.rounds) for run in all_runs(threads, length)]
@@ -275,6 +275,13 @@ class AllRunsTest(unittest.TestCase):
         second = next(asked)
         self.assertEqual(second.rounds[:5], first.rounds[:5])
         self.assertEqual(str(second[5]), "0|1|2|3 4")
+
+    def test_the_first_of_many_runs(self):
+        for threads, length in (((0, 1, 2), 4), ((0, 1, 2, 3), 3), ((0, 1, 2, 3, 4), 2)):
+            rows = plain_rows(threads)
+            expected = itertools.islice(itertools.product(rows, repeat=length), 1500)
+            found = itertools.islice(all_runs(threads, length), 1500)
+            self.assertEqual([tuple(one.blocks for one in run.rounds) for run in found], list(expected))
 
     def test_wrong_threads_are_refused_with_the_first_element(self):
         for threads in WRONG_THREADS:

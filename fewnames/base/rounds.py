@@ -1,7 +1,7 @@
 """Rounds: rows of blocks of threads."""
 
-from fewnames.errors import InvalidOperation, InvalidRound, InvalidThreads
-from fewnames.base.values import check_between, check_member, is_member, is_old_name
+from fewnames.errors import InvalidNumber, InvalidOperation, InvalidRound, InvalidThreads
+from fewnames.base.values import TOO_LONG, check_between, is_member, is_old_name
 
 MAX_THREADS = 5
 
@@ -13,10 +13,14 @@ class Round:
     """A round: each thread sees its own block and all blocks ahead of it."""
 
     def __init__(self, blocks):
-        if not is_row_of_blocks(blocks):
+        places = places_in(blocks)
+        if not 1 <= len(places) <= MAX_THREADS:
             raise InvalidRound("a round is a tuple of ascending tuples of unlike old names")
         self._blocks = blocks
-        self._threads = tuple(sorted(threads_in(blocks)))
+        self._places = places
+        self._threads = tuple(sorted(places))
+        self._unseen = blocks[-1][0] if len(blocks[-1]) == 1 else None
+        self._seen = None
 
     @property
     def blocks(self):
@@ -35,21 +39,26 @@ class Round:
 
     def sees(self, thread):
         """The threads that this thread sees, itself included, ascending."""
-        at = self.block_of(thread)
-        return tuple(sorted(threads_in(self._blocks[:at + 1])))
+        if not is_member(thread, self._places):
+            raise InvalidNumber(thread)
+        if self._seen is None:
+            # A round never changes, so what is seen in it is reckoned only once.
+            self._seen = seen_in(self._blocks)
+        return self._seen[self._places[thread]]
 
     def block_of(self, thread):
         """The index of the block of this thread."""
-        check_member(thread, self._threads)
-        return [at for at, block in enumerate(self._blocks) if thread in block][0]
+        if not is_member(thread, self._places):
+            raise InvalidNumber(thread)
+        return self._places[thread]
 
     def without(self, thread):
         """The round of the other threads."""
-        check_member(thread, self._threads)
+        at = self.block_of(thread)
         if len(self._threads) == 1:
             raise InvalidOperation("a round has at least one thread")
-        rest = [block_without(block, thread) for block in self._blocks]
-        return Round(tuple([block for block in rest if block]))
+        rest = block_without(self._blocks[at], thread)
+        return Round(self._blocks[:at] + ((rest,) if rest else ()) + self._blocks[at + 1:])
 
     def moved(self, thread):
         """The round in which this thread has joined the next block, or has left its own one."""
@@ -66,13 +75,14 @@ class Round:
 
     def is_seen(self, thread):
         """Whether another thread sees this one."""
-        at = self.block_of(thread)
-        return len(self._blocks[at]) > 1 or at + 1 < len(self._blocks)
+        if not is_member(thread, self._places):
+            raise InvalidNumber(thread)
+        return thread != self._unseen
 
     def renamed(self, names):
         """The round with other old names, by a dict from all its threads."""
         check_renaming(self._threads, names)
-        return Round(tuple([tuple(sorted([names[one] for one in block])) for block in self._blocks]))
+        return Round(renamed_blocks(self._blocks, names))
 
     def __contains__(self, value):
         return is_member(value, self._threads)
@@ -94,28 +104,46 @@ def is_threads(value):
     """Whether the value is a tuple of threads."""
     if not isinstance(value, tuple) or not 1 <= len(value) <= MAX_THREADS:
         return False
-    # Only old names are compared: other values may have no order among them.
-    if not all([is_old_name(one) for one in value]):
-        return False
-    return sorted(set(value)) == list(value)
+    last = -1
+    for one in value:
+        # Only integers are compared: other values may have no order among them.
+        if not isinstance(one, int) or one is True or one is False or not last < one < TOO_LONG:
+            return False
+        last = one
+    return True
 
 
-def is_row_of_blocks(value):
-    """Whether the value is the blocks of a round."""
-    if not isinstance(value, tuple) or not all([is_threads(block) for block in value]):
-        return False
-    threads = threads_in(value)
-    return 1 <= len(threads) <= MAX_THREADS and len(set(threads)) == len(threads)
+def places_in(blocks):
+    """A dict from the threads to the indexes of their blocks, empty if these are no blocks of threads."""
+    places = {}
+    if not isinstance(blocks, tuple):
+        return places
+    for at, block in enumerate(blocks):
+        if not is_threads(block):
+            return {}
+        for one in block:
+            if one in places:
+                return {}
+            places[one] = at
+    return places
+
+
+def seen_in(blocks):
+    """For each block the threads that its threads see, ascending."""
+    seen = [blocks[0]]
+    for block in blocks[1:]:
+        seen.append(tuple(sorted(seen[-1] + block)))
+    return seen
 
 
 def is_renaming(threads, value):
     """Whether the value is a dict from just these threads to unlike old names."""
     if not isinstance(value, dict) or len(value) != len(threads):
         return False
-    names = list(value.values())
-    if not all([is_member(key, threads) for key in value]) or not all([is_old_name(name) for name in names]):
-        return False
-    return len(set(names)) == len(names)
+    for key in value:
+        if not is_member(key, threads) or not is_old_name(value[key]):
+            return False
+    return len(set(list(value.values()))) == len(value)
 
 
 def check_threads(threads):
@@ -130,14 +158,15 @@ def check_renaming(threads, names):
         raise InvalidOperation("new old names are a dict from just all threads to unlike old names")
 
 
-def threads_in(blocks):
-    """The threads of these blocks, in the order in which they stand there."""
-    return [one for block in blocks for one in block]
+def renamed_blocks(blocks, names):
+    """The blocks with other old names."""
+    return tuple([tuple(sorted([names[one] for one in block])) for block in blocks])
 
 
 def block_without(block, thread):
     """The block of the others."""
-    return tuple([one for one in block if one != thread])
+    at = block.index(thread)
+    return block[:at] + block[at + 1:]
 
 
 def all_blocks(threads):
@@ -150,22 +179,23 @@ def all_blocks(threads):
     return found
 
 
-def all_rows_of_blocks(threads):
-    """All rows of blocks in which each of these threads stands once, ascending."""
-    if not threads:
-        return [()]
+def all_rows_of_blocks(threads, told):
+    """All rows of blocks in which each of these threads stands once, ascending; `told` keeps those of fewer threads."""
+    if threads in told:
+        return told[threads]
     found = []
     for first in all_blocks(threads):
         others = tuple([one for one in threads if one not in first])
-        for row in all_rows_of_blocks(others):
+        for row in all_rows_of_blocks(others, told):
             found.append((first,) + row)
+    told[threads] = found
     return found
 
 
 def all_rounds(threads):
     """All rounds on these threads, ascending by their blocks."""
     check_threads(threads)
-    for blocks in all_rows_of_blocks(threads):
+    for blocks in all_rows_of_blocks(threads, {(): [()]}):
         yield Round(blocks)
 
 

@@ -1,10 +1,14 @@
 """Runs: rows of rounds on the same threads."""
 
 from fewnames.errors import InvalidOperation, InvalidRound, InvalidRun, InvalidThreads, TooMany
-from fewnames.base.rounds import Round, all_rounds, check_renaming, check_threads, is_threads, round_count
+from fewnames.base.rounds import (
+    Round, all_rounds, check_renaming, check_threads, is_threads, renamed_blocks, round_count)
 from fewnames.base.values import check_between, check_member, is_old_name
 
 MAX_ROUNDS = 6
+
+# As many rows of rounds can be kept at once.
+MANY_ROWS = 1000
 
 
 class Run:
@@ -57,22 +61,25 @@ class Run:
     def known(self, thread):
         """The threads of which this one knows behind the run, itself included, ascending."""
         check_member(thread, self._threads)
-        known = [thread]
+        known = (thread,)
         # Backwards: a thread brings along what it had seen ahead of the round in which it is seen.
         for one in self._rounds[::-1]:
-            known = sorted({seen for knower in known for seen in one.sees(knower)})
-        return tuple(known)
+            known = all_seen(one, known)
+        return known
 
     def is_hidden(self, thread):
         """Whether no other thread sees this one in any round."""
         check_member(thread, self._threads)
-        return not any([one.is_seen(thread) for one in self._rounds])
+        for one in self._rounds:
+            if one.is_seen(thread):
+                return False
+        return True
 
     def renamed(self, names):
         """The run with other old names, by a dict from all its threads."""
         check_renaming(self._threads, names)
         threads = tuple(sorted([names[one] for one in self._threads]))
-        return Run(threads, tuple([one.renamed(names) for one in self._rounds]))
+        return Run(threads, tuple([Round(renamed_blocks(one.blocks, names)) for one in self._rounds]))
 
     def __getitem__(self, index):
         check_between(index, 0, len(self._rounds) - 1)
@@ -96,11 +103,20 @@ def is_round_on(threads, value):
     return isinstance(value, Round) and value.threads == threads
 
 
+def all_seen(given, threads):
+    """Whom these threads together see in a round, ascending."""
+    # Of two threads one sees all that the other one sees, so it is enough to ask who sees the most.
+    return max([given.sees(one) for one in threads], key=len)
+
+
 def is_row_of_rounds(threads, value):
     """Whether the value is the rounds of a run of these threads."""
     if not isinstance(value, tuple) or len(value) > MAX_ROUNDS:
         return False
-    return all([is_round_on(threads, one) for one in value])
+    for one in value:
+        if not isinstance(one, Round) or one.threads != threads:
+            return False
+    return True
 
 
 def is_order(value):
@@ -132,13 +148,29 @@ def row_at(rounds, length, index):
     return tuple(row[::-1])
 
 
+def all_rows(rounds, length):
+    """All rows of so many of these rounds, ascending as these do."""
+    rows = [()]
+    for _ in range(length):
+        rows = [row + (one,) for row in rows for one in rounds]
+    return rows
+
+
 def all_runs(threads, length):
     """All runs of these threads with so many rounds, ascending by their rounds."""
     check_threads(threads)
-    many = run_count(len(threads), length)
-    rounds = list(all_rounds(threads))
-    for index in range(many):
-        yield Run(threads, row_at(rounds, length, index))
+    size = len(threads)
+    check_length(length)
+    rounds = list(all_rounds(threads)) if length else []
+    # The rows of the last rounds are the same behind each row of the first ones: they are made only once.
+    last = length
+    while run_count(size, last) > MANY_ROWS:
+        last -= 1
+    ends = all_rows(rounds, last)
+    for index in range(run_count(size, length - last)):
+        start = row_at(rounds, length - last, index)
+        for end in ends:
+            yield Run(threads, start + end)
 
 
 def run_count(size, length):

@@ -2,21 +2,24 @@
 
 from fewnames.errors import InvalidNumber
 
+# The least integer with more than sixty digits.
+TOO_LONG = 10 ** 60
+
 
 def is_integer(value):
     """Whether the value is an integer of at most sixty digits."""
     # True and False are values of int, but no integers here.
-    return isinstance(value, int) and not isinstance(value, bool) and abs(value) < 10 ** 60
+    return isinstance(value, int) and value is not True and value is not False and abs(value) < TOO_LONG
 
 
 def is_old_name(value):
     """Whether the value is an old name."""
-    return is_integer(value) and value >= 0
+    return isinstance(value, int) and value is not True and value is not False and 0 <= value < TOO_LONG
 
 
 def is_member(value, integers):
     """Whether the value is one of these integers."""
-    return is_integer(value) and value in integers
+    return isinstance(value, int) and value is not True and value is not False and value in integers
 
 
 def check_member(value, integers):
