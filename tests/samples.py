@@ -1,14 +1,19 @@
 """Values that many tests use."""
 
+import copy
 from itertools import permutations, product
 
 from fewnames import errors
 from fewnames.base.rounds import Round
-from fewnames.base.runs import Run
+from fewnames.base.runs import Run, all_runs
+from fewnames.programs.programs import Program
 
 APART = Round(((0,), (1,)))
 BACK = Round(((1,), (0,)))
 TOGETHER = Round(((0, 1),))
+
+# The program that the examples of the document make by rank_program(2).
+RANKS = Program(2, 1, {(0, (((0, (0,)),),)): 1, (0, (((0, (0, 1)),),)): 2, (1, (((1, (0, 1)),),)): 3})
 
 # The greatest integer that is let, and the least one that is too long.
 LONGEST = 10 ** 60 - 1
@@ -23,7 +28,7 @@ def odd_values():
     return [
         None, True, False, "", "0", "0 1", "a\nb", "x" * 2000, (), (0,), (0, 1), (True,), (None,), [], [0], [0, 1],
         {}, {0: 1}, {"a": None}, DEEP_TUPLE, DEEP_LIST, {0: {0: {0: [((0,),)]}}},
-        TOO_LONG, -TOO_LONG, 10 ** 99, -(10 ** 99), APART, TOGETHER, Run((0, 1), (APART,)),
+        TOO_LONG, -TOO_LONG, 10 ** 99, -(10 ** 99), APART, TOGETHER, Run((0, 1), (APART,)), RANKS,
         errors.InvalidNumber(0), errors.FewError("0"), ((0,), (1,)), ((1,), (0,)), [(0,), (1,)],
     ]
 
@@ -64,3 +69,60 @@ def plain_sign(blocks):
 
 def all_orders(threads):
     return list(permutations(threads))
+
+
+def plain_view(run, thread):
+    """The view of a thread behind the run, written row by row as the document says."""
+    rows = []
+    listed = {thread}
+    for given in reversed(run.rounds):
+        rows.append(tuple((one, plain_sees(given.blocks, one)) for one in sorted(listed)))
+        listed = set().union(*[plain_sees(given.blocks, one) for one in listed])
+    return (thread, tuple(rows))
+
+
+def plain_carrier(view):
+    """All threads that stand in a view."""
+    found = {view[0]}
+    for row in view[1]:
+        for one, seen in row:
+            found |= {one, *seen}
+    return tuple(sorted(found))
+
+
+def plain_renamed(view, names):
+    """The view with other old names."""
+    rows = tuple(
+        tuple(sorted((names[one], tuple(sorted(names[two] for two in seen))) for one, seen in row)) for row in view[1])
+    return (names[view[0]], rows)
+
+
+def plain_pattern(view):
+    """The view with the ranks in the carrier in place of the threads."""
+    return plain_renamed(view, {one: rank for rank, one in enumerate(plain_carrier(view))})
+
+
+def runs_of_few():
+    """All runs of few threads with few rounds."""
+    return [run for size, most in ((1, 3), (2, 3), (3, 2)) for length in range(most + 1)
+            for run in all_runs((2, 5, 8)[:size], length)]
+
+
+def assert_given(test, error, kept, value, call, *arguments):
+    """The call raises this error, which keeps just this value."""
+    with test.assertRaises(error) as caught:
+        call(*arguments)
+    found = getattr(caught.exception, kept)
+    test.assertEqual([found, found.__class__], [value, value.__class__])
+
+
+def assert_untouched(test, call, *arguments):
+    """Twice the same call gives equal results, and leaves its arguments as they are."""
+    before = copy.deepcopy(arguments)
+    one = call(*arguments)
+    test.assertEqual(call(*arguments), one)
+    test.assertEqual(arguments, before)
+    for this, that in zip(arguments, before):
+        if isinstance(this, dict):
+            test.assertEqual(list(this.items()), list(that.items()))
+    return one

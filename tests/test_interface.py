@@ -12,6 +12,19 @@ FUNCTIONS = {
         "all_runs": ["threads", "length"], "run_count": ["size", "length"], "lined_run": ["order", "length"],
         "joint_run": ["threads", "length"],
     },
+    "fewnames.views.views": {
+        "view_of": ["run", "thread"], "views_of": ["run"], "carrier_of": ["view"], "pattern_of": ["view"],
+        "is_view": ["value"], "is_pattern": ["value"], "run_with": ["view"], "renamed_view": ["view", "names"],
+        "all_patterns": ["size", "length"], "pattern_count": ["size", "length"],
+    },
+    "fewnames.views.partners": {
+        "partner_of": ["run", "thread"], "is_partner": ["run", "thread", "value"], "last_seen": ["run", "thread"],
+        "same_views": ["run", "other"], "neighbors_of": ["run"], "chain_between": ["run", "other"], "is_chain": ["value"],
+        "signed_sum": ["run", "thread"],
+    },
+    "fewnames.programs.programs": {
+        "program_by": ["size", "length", "rule"], "is_names": ["size", "length", "value"],
+    },
 }
 CLASSES = {
     ("fewnames.base.rounds", "Round"): {
@@ -24,12 +37,22 @@ CLASSES = {
         "known": ["thread"], "is_hidden": ["thread"], "renamed": ["names"], "__getitem__": ["index"], "__iter__": [],
         "__len__": [], "__eq__": ["other"], "__str__": [],
     },
+    ("fewnames.programs.programs", "Program"): {
+        "__init__": ["size", "length", "names"], "name_of": ["view"], "names_in": ["run"], "with_name": ["view", "name"],
+        "mapped": ["table"], "for_fewer": ["size"], "mirrored": [], "lengthened": [], "__contains__": ["value"],
+        "__len__": [], "__eq__": ["other"], "__str__": [],
+    },
 }
 PROPERTIES = {
     ("fewnames.base.rounds", "Round"): ["blocks", "threads", "sign"],
     ("fewnames.base.runs", "Run"): ["threads", "rounds", "sign"],
+    ("fewnames.programs.programs", "Program"): ["size", "length", "names", "told", "greatest"],
 }
-CONSTANTS = {"fewnames.base.rounds": {"MAX_THREADS": 5}, "fewnames.base.runs": {"MAX_ROUNDS": 6}}
+CONSTANTS = {
+    "fewnames.base.rounds": {"MAX_THREADS": 5}, "fewnames.base.runs": {"MAX_ROUNDS": 6},
+    "fewnames.views.views": {"MAX_PATTERNS": 1200}, "fewnames.views.partners": {"MAX_CHAIN": 20000},
+    "fewnames.programs.programs": {"MAX_NAME": 99},
+}
 
 
 def parameters_of(function):

@@ -8,19 +8,13 @@ from fewnames.base.rounds import Round, all_rounds
 from fewnames.base.runs import MAX_ROUNDS, Run, all_runs, joint_run, lined_run, run_count
 from fewnames.errors import InvalidNumber, InvalidOperation, InvalidRound, InvalidRun, InvalidThreads, TooMany
 from tests.samples import (
-    APART, BACK, LONGEST, TOGETHER, TOO_LONG, all_orders, odd_values, plain_known, plain_rows)
+    APART, BACK, LONGEST, TOGETHER, TOO_LONG, all_orders, odd_values, plain_known, plain_rows, runs_of_few)
 
 WRONG_THREADS = [
     (), (1, 0), (0, 0), [0, 1], (True,), (0, True), (-1,), (0, 1, 2, 3, 4, 5), (TOO_LONG,), None, 3, True, "01", {0: 1},
     ((0,), (1,)), (None,), APART, (APART,),
 ]
 WRONG_LENGTHS = [-1, 7, LONGEST, -LONGEST] + odd_values()
-
-
-def runs_of_few():
-    """All runs of few threads with few rounds."""
-    return [run for size, most in ((1, 3), (2, 3), (3, 2)) for length in range(most + 1)
-            for run in all_runs((2, 5, 8)[:size], length)]
 
 
 class MakingTest(unittest.TestCase):

@@ -126,6 +126,12 @@ def is_order(value):
     return is_threads(tuple(sorted(value)))
 
 
+def check_run(run):
+    """Refuses a value that is no run."""
+    if not isinstance(run, Run):
+        raise InvalidRun("a run is made by Run")
+
+
 def check_length(length):
     """Refuses a value that is no number of rounds of a run."""
     check_between(length, 0, MAX_ROUNDS)

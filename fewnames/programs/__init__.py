@@ -1,0 +1,1 @@
+"""Programs, and what is asked of them."""

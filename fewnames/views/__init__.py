@@ -1,0 +1,1 @@
+"""Views and partners."""
