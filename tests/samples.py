@@ -6,7 +6,8 @@ from itertools import permutations, product
 from fewnames import errors
 from fewnames.base.rounds import Round
 from fewnames.base.runs import Run, all_runs
-from fewnames.programs.programs import Program
+from fewnames.programs.programs import Program, program_by
+from fewnames.views.views import all_patterns
 
 APART = Round(((0,), (1,)))
 BACK = Round(((1,), (0,)))
@@ -126,3 +127,28 @@ def assert_untouched(test, call, *arguments):
         if isinstance(this, dict):
             test.assertEqual(list(this.items()), list(that.items()))
     return one
+
+
+def rank_program(size):
+    """The good program of one round in which a thread counts whom it sees, and who of these is less."""
+    return program_by(size, 1, lambda one: len(one[1][0][0][1]) * (len(one[1][0][0][1]) - 1) // 2 + one[0] + 1)
+
+
+def mixed(size, length, greatest=99):
+    """A program with new names to this one, in no order."""
+    patterns = all_patterns(size, length)
+    return Program(size, length, {one: (7 * at * at + 3 * at + at // 5) % greatest + 1 for at, one in enumerate(patterns)})
+
+
+def some_programs():
+    """Programs of all sizes, good ones and others, with few and with many new names."""
+    good = [rank_program(size) for size in range(1, 6)]
+    good += [rank_program(2).lengthened().mirrored(), rank_program(3).lengthened(), rank_program(4).for_fewer(2)]
+    good += [rank_program(3).mapped({1: 9, 2: 99, 3: 1, 4: 30, 5: 2, 6: 98})]
+    shapes = [(1, 0), (1, 3), (2, 0), (2, 1), (2, 3), (3, 0), (3, 1), (3, 2), (4, 1), (5, 0), (5, 1)]
+    return good + [mixed(size, length, greatest) for size, length in shapes for greatest in (1, 2, max(1, 2 * size - 2), 99)]
+
+
+def plain_outcomes(program, many):
+    """For all runs of so many threads, in their order, the new names that these take, with the sign of the run."""
+    return [(tuple(program.names_in(run).values()), run.sign) for run in all_runs(tuple(range(many)), program.length)]

@@ -4,6 +4,15 @@ import unittest
 
 from fewnames.base.rounds import Round, all_rounds, round_count
 from fewnames.base.runs import Run, all_runs, joint_run, lined_run, run_count
+from fewnames.counts.binomials import (
+    allowed_marks, binomial, common_factor, is_barred, is_barred_paper, is_free_paper, least_free, prime_base)
+from fewnames.counts.counts import (
+    count_of, family_of, is_family, opened_at, rearranged, signed_counts)
+from fewnames.counts.marks import (
+    all_marked, forced_double, forced_run, is_forced_paper, is_triangle, mark_counts, marked_threads, reached_marks,
+    triangle_from, triangle_of)
+from fewnames.programs.checks import (
+    all_doubles, all_meetings, found_double, is_double, is_good, names_reached)
 from fewnames.programs.programs import program_by
 from fewnames.views.partners import (
     chain_between, is_chain, last_seen, neighbors_of, partner_of, same_views, signed_sum)
@@ -78,6 +87,55 @@ class ExamplesTest(unittest.TestCase):
             [RANKS.mirrored().names_in(Run((0, 1), (TOGETHER,))), len(RANKS.lengthened()), RANKS.for_fewer(1).names,
              program_by(2, 0, lambda one: 4).names, RANKS.mapped({1: 1, 2: 2, 3: 2}).greatest],
             [{0: 3, 1: 2}, 9, {(0, (((0, (0,)),),)): 1}, {(0, ()): 4}, 2])
+
+    def test_stage_6_first(self):
+        self.assertEqual(
+            [is_good(RANKS), found_double(RANKS), names_reached(RANKS), all_meetings(2, 0), len(all_meetings(2, 1)),
+             is_good(RANKS.mapped({1: 1, 2: 2, 3: 2}))],
+            [True, None, (1, 3), (((0, ()), (0, ())),), 3, False])
+
+    def test_stage_6_second(self):
+        self.assertEqual(
+            [is_double(RANKS.mapped({1: 1, 2: 2, 3: 2}), (Run((3, 9), (Round(((3, 9),)),)), 3, 9)),
+             [str(one) for one in all_doubles(RANKS.mapped({1: 1, 2: 1, 3: 2}), (0, 1))]],
+            [True, ['run of 2 threads: 1|0']])
+
+    def test_stage_7_first(self):
+        self.assertEqual(
+            [signed_counts(RANKS, 2), opened_at(signed_counts(RANKS, 2), 1), is_family(family_of(RANKS)),
+             count_of(signed_counts(RANKS, 2), {0: 2}), family_of(RANKS) == family_of(RANKS.lengthened())],
+            [{(1, 3): 1, (2, 1): 1, (2, 3): -1}, {(1,): 1}, True, 0, True])
+
+    def test_stage_7_second(self):
+        self.assertEqual(
+            [is_family(({(): 1}, {(1,): 1}, {(1, 1): 1})), is_family(({(): 1}, {(1,): 1}, {(1, 2): 1, (2, 1): 1})),
+             rearranged({(1, 3): 1, (2, 1): 1}, (1, 0)), signed_counts(RANKS, 0)],
+            [True, False, {(1, 2): 1, (3, 1): 1}, {(): 1}])
+
+    def test_stage_8_first(self):
+        self.assertEqual(
+            [binomial(6, 2), common_factor(6, (2, 3, 4)), common_factor(4, (1, 2, 3)), prime_base(9), prime_base(6),
+             allowed_marks(6, 8, 4), least_free(6), least_free(9)],
+            [15, 5, 2, 3, None, (2, 3, 4), 9, 17])
+
+    def test_stage_8_second(self):
+        self.assertEqual(
+            [is_barred(6, 8), is_barred(6, 9), is_barred_paper(6, 8, ("group", 4, 5)), is_barred_paper(2, 1, ("few",)),
+             is_free_paper(2, 3, ((1, 0), (0, 1)))],
+            [True, False, True, True, True])
+
+    def test_stage_9_first(self):
+        self.assertEqual(
+            [marked_threads(RANKS, (2, 3), Run((5, 8), (Round(((8,), (5,))),))), mark_counts(RANKS, (2, 3), 2),
+             all_marked(RANKS, (2, 3)), triangle_of(RANKS, (2, 3)), reached_marks(RANKS, (2, 3))],
+            [(5,), {(0,): 1, (0, 1): -1, (1,): 1}, (1, 0, -1), ((1,), (1, 0), (0, 1, -1)), (1, 2)])
+
+    def test_stage_9_second(self):
+        two = RANKS.mapped({1: 1, 2: 2, 3: 2})
+        self.assertEqual(
+            [str(forced_double(two)[0]), str(forced_run(two, (2,), (1,))), is_forced_paper(two, ((2,), 2, (0, 1, -1))),
+             triangle_from((1, 0, -1)), is_triangle(((1,), (0, 1), (0, 0, 2)))],
+            ['run of 2 threads: 0 1', 'run of 2 threads: 0 1', True, ((1,), (1, 0), (0, 1, -1)), False])
 
     def test_texts_of_the_interface(self):
         self.assertEqual(str(Round(((0, 2), (1,)))), "0 2|1")

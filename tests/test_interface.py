@@ -25,6 +25,26 @@ FUNCTIONS = {
     "fewnames.programs.programs": {
         "program_by": ["size", "length", "rule"], "is_names": ["size", "length", "value"],
     },
+    "fewnames.programs.checks": {
+        "is_good": ["program"], "found_double": ["program"], "is_double": ["program", "value"],
+        "all_doubles": ["program", "threads"], "all_meetings": ["size", "length"], "names_reached": ["program"],
+    },
+    "fewnames.counts.counts": {
+        "signed_counts": ["program", "many"], "family_of": ["program"], "opened_at": ["counts", "place"],
+        "is_family": ["value"], "count_of": ["counts", "known"], "rearranged": ["counts", "places"],
+    },
+    "fewnames.counts.binomials": {
+        "binomial": ["top", "low"], "common_factor": ["size", "numbers"], "prime_base": ["size"],
+        "allowed_marks": ["size", "names", "group_size"], "is_barred": ["size", "names"], "least_free": ["size"],
+        "barred_paper": ["size", "names"], "is_barred_paper": ["size", "names", "value"], "free_paper": ["size", "names"],
+        "is_free_paper": ["size", "names", "value"],
+    },
+    "fewnames.counts.marks": {
+        "marked_threads": ["program", "group", "run"], "mark_counts": ["program", "group", "many"],
+        "all_marked": ["program", "group"], "triangle_of": ["program", "group"], "triangle_from": ["sums"],
+        "is_triangle": ["value"], "reached_marks": ["program", "group"], "forced_run": ["program", "group", "numbers"],
+        "forced_double": ["program"], "forced_paper": ["program"], "is_forced_paper": ["program", "value"],
+    },
 }
 CLASSES = {
     ("fewnames.base.rounds", "Round"): {
@@ -52,6 +72,7 @@ CONSTANTS = {
     "fewnames.base.rounds": {"MAX_THREADS": 5}, "fewnames.base.runs": {"MAX_ROUNDS": 6},
     "fewnames.views.views": {"MAX_PATTERNS": 1200}, "fewnames.views.partners": {"MAX_CHAIN": 20000},
     "fewnames.programs.programs": {"MAX_NAME": 99},
+    "fewnames.counts.binomials": {"MAX_SIZE": 60, "MAX_LIST": 200},
 }
 
 

@@ -9,8 +9,8 @@ from fewnames.errors import InvalidNumber, InvalidOperation, InvalidProgram, Inv
 from fewnames.programs.programs import MAX_NAME, Program, is_names, program_by
 from fewnames.views.views import all_patterns, pattern_count, view_of, views_of
 from tests.samples import (
-    APART, BACK, LONGEST, RANKS, TOGETHER, TOO_LONG, assert_given, assert_untouched, odd_values, plain_carrier,
-    plain_pattern, plain_renamed, plain_view)
+    APART, BACK, LONGEST, RANKS, TOGETHER, TOO_LONG, assert_given, assert_untouched, mixed, odd_values,
+    plain_carrier, plain_pattern, plain_renamed, plain_view)
 
 ALONE = (0, (((0, (0,)),),))
 LOW = (0, (((0, (0, 1)),),))
@@ -20,12 +20,6 @@ LARGEST = ((2, 6), (3, 3), (4, 2), (5, 1))
 NO_NAMES = [0, 100, -1, LONGEST] + odd_values()
 NO_SIZES = [0, 6, -1, LONGEST] + odd_values()
 NO_LENGTHS = [-1, 7, LONGEST] + odd_values()
-
-
-def mixed(size, length):
-    """A program with many new names, in no order."""
-    patterns = all_patterns(size, length)
-    return Program(size, length, {one: (7 * at * at + 3 * at) % 99 + 1 for at, one in enumerate(patterns)})
 
 
 def wrong_names(right):

@@ -1,0 +1,1 @@
+"""Signed counts, and what follows from them."""
