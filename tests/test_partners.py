@@ -87,6 +87,7 @@ class PartnerTest(unittest.TestCase):
                     self.assertRaises(InvalidRun, call, value, thread)
             for thread in odd_values() + [2, -1, LONGEST]:
                 assert_given(self, InvalidNumber, "given", thread, call, run, thread)
+                assert_given(self, InvalidNumber, "given", thread, call, Run((0, 1), ()), thread)
         for value in NO_RUNS:
             self.assertRaises(InvalidRun, neighbors_of, value)
 
@@ -117,7 +118,8 @@ class IsPartnerTest(unittest.TestCase):
             for thread in (0, None):
                 self.assertRaises(InvalidRun, is_partner, value, thread, None)
         for thread in odd_values() + [2, -1]:
-            assert_given(self, InvalidNumber, "given", thread, is_partner, Run((0, 1), (APART,)), thread, None)
+            for run in (Run((0, 1), (APART,)), Run((0, 1), ())):
+                assert_given(self, InvalidNumber, "given", thread, is_partner, run, thread, None)
 
 
 class LastSeenTest(unittest.TestCase):

@@ -7,7 +7,7 @@ from fewnames.base.rounds import Round, all_rounds
 from fewnames.base.runs import Run, all_runs, joint_run, lined_run
 from fewnames.errors import InvalidNumber, InvalidOperation, InvalidRun, InvalidView, TooMany
 from fewnames.views.views import (
-    MAX_PATTERNS, all_patterns, carrier_of, is_pattern, is_view, pattern_count, pattern_of, renamed_view, run_with,
+    MAX_PATTERNS, ROW_COUNTS, all_patterns, carrier_of, is_pattern, is_view, pattern_count, pattern_of, renamed_view, run_with,
     view_of, views_of)
 from tests.samples import (
     APART, BACK, LONGEST, TOGETHER, TOO_LONG, assert_given, assert_untouched, odd_values, plain_carrier, plain_pattern,
@@ -350,6 +350,13 @@ class AllPatternsTest(unittest.TestCase):
     def test_one_thread(self):
         for length in range(7):
             self.assertEqual(all_patterns(1, length), ((0, (((0, (0,)),),) * length),))
+
+    def test_rows_are_counted_right(self):
+        for many in range(1, 6):
+            threads = tuple(range(many))
+            for less in range(1, many + 1):
+                rows = {tuple(plain_sees(blocks, one) for one in threads[:less]) for blocks in plain_rows(threads)}
+                self.assertEqual(ROW_COUNTS[less - 1][many - 1], len([row for row in rows if threads in row]))
 
     def test_more_than_1200(self):
         for size in range(1, 6):

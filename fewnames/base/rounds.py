@@ -19,7 +19,8 @@ class Round:
         self._blocks = blocks
         self._places = places
         self._threads = tuple(sorted(places))
-        self._unseen = blocks[-1][0] if len(blocks[-1]) == 1 else None
+        last = blocks[-1]
+        self._unseen = last[0] if len(last) == 1 else None
         self._seen = None
 
     @property
@@ -172,10 +173,9 @@ def block_without(block, thread):
 def all_blocks(threads):
     """All blocks that some of these threads can form, ascending."""
     found = []
-    for at, thread in enumerate(threads):
-        found.append((thread,))
-        for others in all_blocks(threads[at + 1:]):
-            found.append((thread,) + others)
+    for thread in threads[::-1]:
+        # Those that begin with this thread come ahead of those that begin with a later one.
+        found = [(thread,)] + [(thread,) + others for others in found] + found
     return found
 
 

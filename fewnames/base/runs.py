@@ -154,26 +154,18 @@ def row_at(rounds, length, index):
     return tuple(row[::-1])
 
 
-def all_rows(rounds, length):
-    """All rows of so many of these rounds, ascending as these do."""
-    rows = [()]
-    for _ in range(length):
-        rows = [row + (one,) for row in rows for one in rounds]
-    return rows
-
-
 def all_runs(threads, length):
     """All runs of these threads with so many rounds, ascending by their rounds."""
     check_threads(threads)
-    size = len(threads)
     check_length(length)
     rounds = list(all_rounds(threads)) if length else []
     # The rows of the last rounds are the same behind each row of the first ones: they are made only once.
-    last = length
-    while run_count(size, last) > MANY_ROWS:
-        last -= 1
-    ends = all_rows(rounds, last)
-    for index in range(run_count(size, length - last)):
+    ends = [()]
+    last = 0
+    while last < length and len(ends) * len(rounds) <= MANY_ROWS:
+        ends = [(one,) + end for one in rounds for end in ends]
+        last += 1
+    for index in range(run_count(len(threads), length - last)):
         start = row_at(rounds, length - last, index)
         for end in ends:
             yield Run(threads, start + end)

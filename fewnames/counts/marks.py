@@ -2,7 +2,7 @@
 
 from fewnames.errors import InvalidGroup, InvalidOperation
 from fewnames.base.rounds import MAX_THREADS
-from fewnames.base.values import check_between, is_integer
+from fewnames.base.values import is_integer
 from fewnames.counts.binomials import barring_group, factor_of, is_barred, is_factor, is_row_of_marks, marks_of
 from fewnames.counts.counts import signed_counts, summed
 from fewnames.programs.checks import found_double
@@ -20,7 +20,6 @@ def marked_threads(program, group, run):
 def mark_counts(program, group, many):
     """A dict from tuples of threads to the signed numbers of the runs in which just these are marked."""
     check_marking(program, group)
-    check_between(many, 0, program.size)
     counts = signed_counts(program, many)
     marked = [tuple([one for one, name in enumerate(outcome) if name in group]) for outcome in counts]
     return summed(marked, list(counts.values()))
