@@ -6,15 +6,17 @@ from itertools import permutations, product
 from fewnames import errors
 from fewnames.base.rounds import Round
 from fewnames.base.runs import Run, all_runs
-from fewnames.programs.programs import Program, program_by
+from fewnames.make.makers import combined_program, rank_program, shrinking_program
+from fewnames.make.tables import Table
+from fewnames.programs.programs import Program
+from fewnames.tasks.choices import greatest_choice, least_choice
 from fewnames.views.views import all_patterns
 
 APART = Round(((0,), (1,)))
 BACK = Round(((1,), (0,)))
 TOGETHER = Round(((0, 1),))
 
-# The program that the examples of the document make by rank_program(2).
-RANKS = Program(2, 1, {(0, (((0, (0,)),),)): 1, (0, (((0, (0, 1)),),)): 2, (1, (((1, (0, 1)),),)): 3})
+RANKS = rank_program(2)
 
 # The greatest integer that is let, and the least one that is too long.
 LONGEST = 10 ** 60 - 1
@@ -30,7 +32,7 @@ def odd_values():
         None, True, False, "", "0", "0 1", "a\nb", "x" * 2000, (), (0,), (0, 1), (True,), (None,), [], [0], [0, 1],
         {}, {0: 1}, {"a": None}, DEEP_TUPLE, DEEP_LIST, {0: {0: {0: [((0,),)]}}},
         TOO_LONG, -TOO_LONG, 10 ** 99, -(10 ** 99), APART, TOGETHER, Run((0, 1), (APART,)), RANKS,
-        errors.InvalidNumber(0), errors.FewError("0"), ((0,), (1,)), ((1,), (0,)), [(0,), (1,)],
+        Table((0, 1)), errors.InvalidNumber(0), errors.FewError("0"), ((0,), (1,)), ((1,), (0,)), [(0,), (1,)],
     ]
 
 
@@ -129,11 +131,6 @@ def assert_untouched(test, call, *arguments):
     return one
 
 
-def rank_program(size):
-    """The good program of one round in which a thread counts whom it sees, and who of these is less."""
-    return program_by(size, 1, lambda one: len(one[1][0][0][1]) * (len(one[1][0][0][1]) - 1) // 2 + one[0] + 1)
-
-
 def mixed(size, length, greatest=99):
     """A program with new names to this one, in no order."""
     patterns = all_patterns(size, length)
@@ -141,14 +138,59 @@ def mixed(size, length, greatest=99):
 
 
 def some_programs():
-    """Programs of all sizes, good ones and others, with few and with many new names."""
-    good = [rank_program(size) for size in range(1, 6)]
-    good += [rank_program(2).lengthened().mirrored(), rank_program(3).lengthened(), rank_program(4).for_fewer(2)]
-    good += [rank_program(3).mapped({1: 9, 2: 99, 3: 1, 4: 30, 5: 2, 6: 98})]
+    """Programs of all sizes, good ones and others, made ones and others, with few and with many new names."""
+    made = [rank_program(size) for size in range(1, 6)]
+    made += [rank_program(2).lengthened().mirrored(), rank_program(3).lengthened(), rank_program(4).for_fewer(2)]
+    made += [rank_program(3).mapped({1: 9, 2: 99, 3: 1, 4: 30, 5: 2, 6: 98}), shrinking_program(3)]
+    pairs = {pair: 10 * pair[0] + pair[1] for pair in product((1, 2, 3), repeat=2)}
+    made += [combined_program(RANKS, RANKS, pairs), greatest_choice(3, 1), least_choice(2, 2)]
     shapes = [(1, 0), (1, 3), (2, 0), (2, 1), (2, 3), (3, 0), (3, 1), (3, 2), (4, 1), (5, 0), (5, 1)]
-    return good + [mixed(size, length, greatest) for size, length in shapes for greatest in (1, 2, max(1, 2 * size - 2), 99)]
+    return made + [mixed(size, length, greatest) for size, length in shapes for greatest in (1, 2, max(1, 2 * size - 2), 99)]
 
 
 def plain_outcomes(program, many):
     """For all runs of so many threads, in their order, the new names that these take, with the sign of the run."""
     return [(tuple(program.names_in(run).values()), run.sign) for run in all_runs(tuple(range(many)), program.length)]
+
+
+def plain_shrunk(rounds, threads):
+    """The new names by the shrinking rule, and the groups behind the rounds, which are kept as lists of threads."""
+    names = {}
+    groups = [(sorted(threads), 1, 1)]
+    for blocks in rounds:
+        later = []
+        for group, first, direction in groups:
+            parts = {}
+            for one in group:
+                looked_at = tuple(other for other in plain_sees(blocks, one) or () if other in group)
+                parts.setdefault(looked_at, []).append(one)
+            for looked_at, part in parts.items():
+                many = len(looked_at)
+                rest = [one for one in part if not looked_at or one != looked_at[-1]]
+                if rest != part:
+                    names[looked_at[-1]] = first + direction * (2 * many - 2)
+                if not looked_at:
+                    later.append((rest, first, direction))
+                elif rest:
+                    later.append((rest, first + direction * (2 * many - 3), -direction))
+        groups = later
+    return names, groups
+
+
+def plain_shrunk_names(run):
+    """The new names by the shrinking rule, with its sentence on the last round."""
+    names, groups = plain_shrunk([given.blocks for given in run.rounds], run.threads)
+    for group, first, _ in groups:
+        if len(group) == 1:
+            names[group[0]] = first
+    return {one: names[one] for one in sorted(names)}
+
+
+def some_runs(threads, length, step):
+    """Each so many-th run of these threads, in the order of all_runs."""
+    rounds = [Round(blocks) for blocks in plain_rows(threads)]
+    found = []
+    for index in range(0, len(rounds) ** length, step):
+        places = [index // len(rounds) ** at % len(rounds) for at in reversed(range(length))]
+        found.append(Run(threads, tuple(rounds[place] for place in places)))
+    return found

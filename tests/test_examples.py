@@ -11,9 +11,14 @@ from fewnames.counts.counts import (
 from fewnames.counts.marks import (
     all_marked, forced_double, forced_run, is_forced_paper, is_triangle, mark_counts, marked_threads, reached_marks,
     triangle_from, triangle_of)
+from fewnames.make.makers import packed_program, rank_program, shrinking_program, shrunk_names
+from fewnames.make.tables import Table
 from fewnames.programs.checks import (
     all_doubles, all_meetings, found_double, is_double, is_good, names_reached)
 from fewnames.programs.programs import program_by
+from fewnames.tasks.choices import (
+    choice_counts, choices_in, chosen_numbers, found_rainbow, greatest_choice, is_choice, is_election, least_choice,
+    own_choice, rainbow_sum)
 from fewnames.views.partners import (
     chain_between, is_chain, last_seen, neighbors_of, partner_of, same_views, signed_sum)
 from fewnames.views.views import (
@@ -136,6 +141,37 @@ class ExamplesTest(unittest.TestCase):
             [str(forced_double(two)[0]), str(forced_run(two, (2,), (1,))), is_forced_paper(two, ((2,), 2, (0, 1, -1))),
              triangle_from((1, 0, -1)), is_triangle(((1,), (0, 1), (0, 0, 2)))],
             ['run of 2 threads: 0 1', 'run of 2 threads: 0 1', True, ((1,), (1, 0), (0, 1, -1)), False])
+
+    def test_stage_10(self):
+        self.assertEqual(RANKS, rank_program(2))
+        self.assertEqual(
+            [rank_program(3).told, is_good(rank_program(4)), shrunk_names(Run((0, 1), (APART,))),
+             shrunk_names(Run((0, 1), (BACK,))), shrunk_names(Run((0, 1), (TOGETHER,)))],
+            [(1, 2, 3, 4, 5, 6), True, {0: 1, 1: 3}, {0: 2, 1: 1}, {0: 2, 1: 3}])
+        self.assertEqual(
+            [shrinking_program(2) == RANKS, is_good(shrinking_program(3)), shrinking_program(3).greatest,
+             shrunk_names(joint_run((2, 4, 7, 9), 3)), packed_program(RANKS.mapped({1: 7, 2: 9, 3: 8})).told],
+            [True, True, 5, {2: 4, 4: 5, 7: 2, 9: 7}, (1, 2, 3)])
+
+    def test_stage_11(self):
+        table = Table((3, 5, 8))
+        self.assertEqual(
+            [table.go(Round(((5,), (3, 8)))), table.places, table.go(Round(((3, 5, 8),))), bool(table), table.names,
+             str(table)],
+            [{5: 1, 8: 5}, {3: (4, -1)}, {3: 4}, False, {3: 4, 5: 1, 8: 5}, 'table of 3 threads: 2 rounds, 3 named'])
+        self.assertEqual(
+            [table.undo(many=2), table.stop(8), table.finish(), table.names, table.run[0].blocks, len(table)],
+            [(3, 5, 8), None, 2, {3: 2, 5: 3, 8: None}, ((3, 5), (8,)), 2])
+
+    def test_stage_12(self):
+        self.assertEqual(
+            [choices_in(least_choice(2, 1), Run((5, 8), (Round(((8,), (5,))),))), choice_counts(least_choice(2, 1), 2),
+             rainbow_sum(least_choice(2, 1), 2), str(found_rainbow(least_choice(2, 1)))],
+            [{5: 5, 8: 8}, {(0, 1): 1}, 1, 'run of 2 threads: 1|0'])
+        self.assertEqual(
+            [rainbow_sum(greatest_choice(3, 1), 3), chosen_numbers(least_choice(2, 1), 2), is_election(least_choice(3, 1)),
+             is_election(least_choice(3, 2)), is_choice(RANKS), own_choice(2, 0).names],
+            [1, {1: 2, 2: 1}, True, False, False, {(0, ()): 1}])
 
     def test_texts_of_the_interface(self):
         self.assertEqual(str(Round(((0, 2), (1,)))), "0 2|1")

@@ -45,6 +45,17 @@ FUNCTIONS = {
         "is_triangle": ["value"], "reached_marks": ["program", "group"], "forced_run": ["program", "group", "numbers"],
         "forced_double": ["program"], "forced_paper": ["program"], "is_forced_paper": ["program", "value"],
     },
+    "fewnames.make.makers": {
+        "rank_program": ["size"], "shrunk_names": ["run"], "shrinking_program": ["size"], "packed_program": ["program"],
+        "combined_program": ["one", "other", "names"],
+    },
+    "fewnames.tasks.choices": {
+        "is_choice": ["program"], "choices_in": ["program", "run"], "choice_counts": ["program", "many"],
+        "rainbow_sum": ["program", "many"], "all_rainbows": ["program", "many"], "found_rainbow": ["program"],
+        "chosen_numbers": ["program", "many"], "is_election": ["program"], "own_choice": ["size", "length"],
+        "least_choice": ["size", "length"], "greatest_choice": ["size", "length"],
+        "rule_choice": ["size", "length", "rule"],
+    },
 }
 CLASSES = {
     ("fewnames.base.rounds", "Round"): {
@@ -62,11 +73,16 @@ CLASSES = {
         "mapped": ["table"], "for_fewer": ["size"], "mirrored": [], "lengthened": [], "__contains__": ["value"],
         "__len__": [], "__eq__": ["other"], "__str__": [],
     },
+    ("fewnames.make.tables", "Table"): {
+        "__init__": ["threads"], "go": ["extra"], "stop": ["thread"], "finish": ["*joint=True"], "undo": ["*many=1"],
+        "twin": [], "__bool__": [], "__contains__": ["value"], "__len__": [], "__eq__": ["other"], "__str__": [],
+    },
 }
 PROPERTIES = {
     ("fewnames.base.rounds", "Round"): ["blocks", "threads", "sign"],
     ("fewnames.base.runs", "Run"): ["threads", "rounds", "sign"],
     ("fewnames.programs.programs", "Program"): ["size", "length", "names", "told", "greatest"],
+    ("fewnames.make.tables", "Table"): ["threads", "running", "names", "places", "run"],
 }
 CONSTANTS = {
     "fewnames.base.rounds": {"MAX_THREADS": 5}, "fewnames.base.runs": {"MAX_ROUNDS": 6},
@@ -77,11 +93,15 @@ CONSTANTS = {
 
 
 def parameters_of(function):
-    """The names of the parameters, which all are positional and have no default value."""
-    found = list(inspect.signature(function).parameters.values())
-    for one in found:
-        assert one.kind == one.POSITIONAL_OR_KEYWORD and one.default is one.empty
-    return [one.name for one in found]
+    """The names of the parameters: positional ones have no default value, keywords are shown with a star and theirs."""
+    found = []
+    for one in inspect.signature(function).parameters.values():
+        if one.kind == one.KEYWORD_ONLY:
+            found.append(f"*{one.name}={one.default}")
+        else:
+            assert one.kind == one.POSITIONAL_OR_KEYWORD and one.default is one.empty
+            found.append(one.name)
+    return found
 
 
 class InterfaceTest(unittest.TestCase):

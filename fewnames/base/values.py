@@ -32,3 +32,8 @@ def check_between(value, least, greatest):
     """Refuses a value that is no integer from the least to the greatest one."""
     if not is_integer(value) or value < least or value > greatest:
         raise InvalidNumber(value)
+
+
+def check_many(many):
+    """Refuses a value that is no integer of at least 0."""
+    check_between(many, 0, TOO_LONG)

@@ -17,6 +17,12 @@ def outcomes_of(program, many):
 
 def patterns_in_runs(many, length):
     """A list of patterns, and for all runs of so many threads, in their order, the indexes of the patterns of these."""
+    views, rows = views_in_runs(many, length)
+    return ([ranked(view, last_seen_in(view)) for view in views], rows)
+
+
+def views_in_runs(many, length):
+    """A list of views, and for all runs of so many threads, in their order, the indexes of the views of these."""
     rounds = rounds_for(tuple(range(many)), length)
     views = [(thread, ()) for thread in range(many)]
     rows = [tuple(range(many))]
@@ -32,7 +38,7 @@ def patterns_in_runs(many, length):
             more.extend([tuple([places[at] for at in row]) for row in rows])
         views = list(longer)
         rows = more
-    return ([ranked(view, last_seen_in(view)) for view in views], rows)
+    return (views, rows)
 
 
 def signs_of(many, length):

@@ -55,8 +55,7 @@ class Program:
 
     def names_in(self, run):
         """A dict from the threads of the run to their new names."""
-        if not is_run_for(self._size, self._length, run):
-            raise InvalidRun("the run has as many rounds as the program, and no more threads")
+        check_run_for(self._size, self._length, run)
         return {one: self._names[pattern_behind(run, one)] for one in run.threads}
 
     def with_name(self, view, name):
@@ -154,6 +153,12 @@ def is_mapping(told, value):
 def is_run_for(size, length, value):
     """Whether the value is a run with so many rounds of at most so many threads."""
     return isinstance(value, Run) and len(value) == length and len(value.threads) <= size
+
+
+def check_run_for(size, length, run):
+    """Refuses a value that is no run with so many rounds of at most so many threads."""
+    if not is_run_for(size, length, run):
+        raise InvalidRun("the run has as many rounds as the program, and no more threads")
 
 
 def check_program(program):

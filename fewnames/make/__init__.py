@@ -1,0 +1,1 @@
+"""Programs that are made, and tables at which threads take new names."""

@@ -1,0 +1,1 @@
+"""Tasks for programs: choices and wishes."""
