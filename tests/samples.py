@@ -6,10 +6,12 @@ from itertools import permutations, product
 from fewnames import errors
 from fewnames.base.rounds import Round
 from fewnames.base.runs import Run, all_runs
+from fewnames.desk.desk import Desk
 from fewnames.make.makers import combined_program, rank_program, shrinking_program
 from fewnames.make.tables import Table
 from fewnames.programs.programs import Program
 from fewnames.tasks.choices import greatest_choice, least_choice
+from fewnames.text.shell import Shell
 from fewnames.views.views import all_patterns
 
 APART = Round(((0,), (1,)))
@@ -32,7 +34,7 @@ def odd_values():
         None, True, False, "", "0", "0 1", "a\nb", "x" * 2000, (), (0,), (0, 1), (True,), (None,), [], [0], [0, 1],
         {}, {0: 1}, {"a": None}, DEEP_TUPLE, DEEP_LIST, {0: {0: {0: [((0,),)]}}},
         TOO_LONG, -TOO_LONG, 10 ** 99, -(10 ** 99), APART, TOGETHER, Run((0, 1), (APART,)), RANKS,
-        Table((0, 1)), errors.InvalidNumber(0), errors.FewError("0"), ((0,), (1,)), ((1,), (0,)), [(0,), (1,)],
+        Table((0, 1)), Desk(), Shell(), errors.InvalidNumber(0), errors.FewError("0"), ((0,), (1,)), ((1,), (0,)), [(0,), (1,)],
     ]
 
 

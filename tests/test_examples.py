@@ -11,6 +11,7 @@ from fewnames.counts.counts import (
 from fewnames.counts.marks import (
     all_marked, forced_double, forced_run, is_forced_paper, is_triangle, mark_counts, marked_threads, reached_marks,
     triangle_from, triangle_of)
+from fewnames.desk.desk import Desk
 from fewnames.make.makers import packed_program, rank_program, shrinking_program, shrunk_names
 from fewnames.make.tables import Table
 from fewnames.programs.checks import (
@@ -19,6 +20,10 @@ from fewnames.programs.programs import program_by
 from fewnames.tasks.choices import (
     choice_counts, choices_in, chosen_numbers, found_rainbow, greatest_choice, is_choice, is_election, least_choice,
     own_choice, rainbow_sum)
+from fewnames.tasks.wishes import (
+    fitting_triangle, is_fulfilled, is_open, is_shut_paper, names_wish, pair_program, reached_wish)
+from fewnames.text.shell import Shell
+from fewnames.text.texts import read_group, read_program, read_run, write_program, write_run
 from fewnames.views.partners import (
     chain_between, is_chain, last_seen, neighbors_of, partner_of, same_views, signed_sum)
 from fewnames.views.views import (
@@ -173,11 +178,47 @@ class ExamplesTest(unittest.TestCase):
              is_election(least_choice(3, 2)), is_choice(RANKS), own_choice(2, 0).names],
             [1, {1: 2, 2: 1}, True, False, False, {(0, ()): 1}])
 
+    def test_stage_13(self):
+        self.assertEqual(
+            [reached_wish(RANKS, (2, 3)), is_fulfilled(RANKS, (2, 3), ((0,), (1, 2))), names_wish(2, 2, 1),
+             is_open(((0, 1), (1,))), is_open(((0,), (1, 2)))],
+            [((0,), (1, 2)), True, ((0, 1), (1,)), False, True])
+        self.assertEqual(
+            [fitting_triangle(((0,), (1, 2))), is_shut_paper(((0, 1), (1,)), {0: (2, ((1, 1),)), 1: (2, ((1, 1),))}),
+             pair_program(((0,), (1, 2))).names],
+            [((1,), (1, 0), (0, 1, -1)), True,
+             {(0, (((0, (0,)),),)): 1, (0, (((0, (0, 1)),),)): 2, (1, (((1, (0, 1)),),)): 2}])
+
+    def test_stage_14(self):
+        self.assertEqual(
+            [write_program(RANKS),
+             read_run("0 2|1, 1|0|2") == Run((0, 1, 2), (Round(((0, 2), (1,))), Round(((1,), (0,), (2,))))),
+             write_run(Run((4, 7), ())), read_group("-"), read_program("2 1: 1 2 3") == RANKS],
+            ['2 1: 1 2 3', True, 'none 4 7', (), True])
+        shell = Shell()
+        self.assertEqual(
+            [shell("rank r 2"), shell("enter two 2 1: 1 2 2"), shell("pin within r 3"), shell("double two"),
+             shell("triangle r 2 3"), shell("names r 8|5"), shell("barred 6 8"), shell("grade nobody"), len(shell)],
+            ['r - 3', 'two - double', 'none', '0 1', '0 1 -1', '2 1', 'yes', 'unknown nobody', 7])
+
     def test_texts_of_the_interface(self):
         self.assertEqual(str(Round(((0, 2), (1,)))), "0 2|1")
         run = Run((0, 1, 2), (Round(((0, 2), (1,))), Round(((1,), (0,), (2,)))))
         self.assertEqual(str(run), "run of 3 threads: 0 2|1, 1|0|2")
         self.assertEqual(str(Run((0, 1, 2), ())), "run of 3 threads: no round")
+        self.assertEqual(str(rank_program(3)), "program for 3 threads, 1 rounds: 6 patterns, names to 6")
+        table = Table((3, 5, 8))
+        table.go(Round(((3,), (5, 8))))
+        table.undo()
+        table.go(Round(((3, 5, 8),)))
+        self.assertEqual(str(table), "table of 3 threads: 1 rounds, 1 named")
+        desk = Desk()
+        desk.enter("ranks", RANKS)
+        desk.enter("two", RANKS.mapped({1: 1, 2: 2, 3: 2}))
+        self.assertEqual(str(desk), "desk of 2 programs, 0 pins")
+        shell = Shell()
+        self.assertEqual([shell("rank ranks 2"), shell("enter two 2 1: 1 2 2")], ["ranks - 3", "two - double"])
+        self.assertEqual([shell("grades"), str(shell)], ["ranks:3 two:double", "shell of 3 commands"])
 
 
 if __name__ == "__main__":

@@ -56,6 +56,16 @@ FUNCTIONS = {
         "least_choice": ["size", "length"], "greatest_choice": ["size", "length"],
         "rule_choice": ["size", "length", "rule"],
     },
+    "fewnames.tasks.wishes": {
+        "is_wish": ["value"], "reached_wish": ["program", "group"], "is_fulfilled": ["program", "group", "wish"],
+        "names_wish": ["size", "names", "group_size"], "is_open": ["wish"], "fitting_triangle": ["wish"],
+        "is_fitting": ["wish", "value"], "shut_paper": ["wish"], "is_shut_paper": ["wish", "value"],
+        "pair_program": ["wish"],
+    },
+    "fewnames.text.texts": {
+        "write_round": ["given"], "write_run": ["run"], "write_group": ["group"], "write_program": ["program"],
+        "read_round": ["text"], "read_run": ["text"], "read_group": ["text"], "read_program": ["text"],
+    },
 }
 CLASSES = {
     ("fewnames.base.rounds", "Round"): {
@@ -77,18 +87,29 @@ CLASSES = {
         "__init__": ["threads"], "go": ["extra"], "stop": ["thread"], "finish": ["*joint=True"], "undo": ["*many=1"],
         "twin": [], "__bool__": [], "__contains__": ["value"], "__len__": [], "__eq__": ["other"], "__str__": [],
     },
+    ("fewnames.desk.desk", "Desk"): {
+        "__init__": [], "enter": ["name", "program"], "remove": ["name"], "give": ["name", "view", "new_name"],
+        "lengthen": ["name"], "narrow": ["name", "size"], "pin": ["pin"], "unpin": ["pin"], "trial": ["*changes"],
+        "undo": ["*many=1"], "redo": ["*many=1"], "twin": [], "__getitem__": ["name"], "__contains__": ["value"],
+        "__len__": [], "__iter__": [], "__eq__": ["other"], "__str__": [],
+    },
+    ("fewnames.text.shell", "Shell"): {
+        "__init__": [], "__call__": ["command"], "desk": [], "__len__": [], "__str__": [],
+    },
 }
 PROPERTIES = {
     ("fewnames.base.rounds", "Round"): ["blocks", "threads", "sign"],
     ("fewnames.base.runs", "Run"): ["threads", "rounds", "sign"],
     ("fewnames.programs.programs", "Program"): ["size", "length", "names", "told", "greatest"],
     ("fewnames.make.tables", "Table"): ["threads", "running", "names", "places", "run"],
+    ("fewnames.desk.desk", "Desk"): ["programs", "grades", "pins"],
 }
 CONSTANTS = {
     "fewnames.base.rounds": {"MAX_THREADS": 5}, "fewnames.base.runs": {"MAX_ROUNDS": 6},
     "fewnames.views.views": {"MAX_PATTERNS": 1200}, "fewnames.views.partners": {"MAX_CHAIN": 20000},
     "fewnames.programs.programs": {"MAX_NAME": 99},
     "fewnames.counts.binomials": {"MAX_SIZE": 60, "MAX_LIST": 200},
+    "fewnames.desk.desk": {"MAX_PROGRAMS": 8, "MAX_PINS": 8},
 }
 
 
@@ -98,6 +119,8 @@ def parameters_of(function):
     for one in inspect.signature(function).parameters.values():
         if one.kind == one.KEYWORD_ONLY:
             found.append(f"*{one.name}={one.default}")
+        elif one.kind == one.VAR_POSITIONAL:
+            found.append(f"*{one.name}")
         else:
             assert one.kind == one.POSITIONAL_OR_KEYWORD and one.default is one.empty
             found.append(one.name)

@@ -61,7 +61,7 @@ def is_triangle(value):
 def reached_marks(program, group):
     """The numbers of marked threads that come up in the runs of as many threads as the size, ascending."""
     check_marking(program, group)
-    return tuple(sorted(set(marks_in_runs(program, group))))
+    return tuple(sorted(set(marks_in_runs(program, group, program.size))))
 
 
 def forced_run(program, group, numbers):
@@ -71,7 +71,7 @@ def forced_run(program, group, numbers):
         raise InvalidOperation("numbers are an ascending tuple of integers from 0 to the size")
     if factor_of(program.size, numbers) == 1:
         raise InvalidOperation("the numbers have no common factor that forces a run")
-    indexes = [index for index, mark in enumerate(marks_in_runs(program, group)) if mark not in numbers]
+    indexes = [index for index, mark in enumerate(marks_in_runs(program, group, program.size)) if mark not in numbers]
     return runs_at(tuple(range(program.size)), program.length, indexes[:1])[0]
 
 
@@ -117,6 +117,11 @@ def is_group(value):
 def check_marking(program, group):
     """Refuses values that are no program and no group."""
     check_program(program)
+    check_group(group)
+
+
+def check_group(group):
+    """Refuses a value that is no group."""
     if not is_group(group):
         raise InvalidGroup("a group is an ascending tuple of new names")
 
@@ -135,7 +140,7 @@ def row_below(above, last):
     return tuple(row[::-1])
 
 
-def marks_in_runs(program, group):
-    """The numbers of marked threads in all runs of as many threads as the size, in the order of all_runs."""
+def marks_in_runs(program, group, many):
+    """The numbers of marked threads in all runs of so many threads, in the order of all_runs."""
     marked = {name: True for name in group}
-    return [len([name for name in outcome if name in marked]) for outcome in outcomes_of(program, program.size)]
+    return [len([name for name in outcome if name in marked]) for outcome in outcomes_of(program, many)]

@@ -1,0 +1,1 @@
+"""Desks, which keep programs and pins."""

@@ -1,0 +1,1 @@
+"""Texts of rounds, runs, groups and programs, and the shell."""
