@@ -314,6 +314,14 @@ class PinsTest(unittest.TestCase):
             self.assertRaises(InvalidOperation, desk.unpin, pin)
         self.assertEqual(history(desk), before)
 
+    def test_true_is_not_1(self):
+        desk = desk_with(a=rank_program(1))
+        desk.pin(("within", "a", 1))
+        for call in (desk.pin, desk.unpin):
+            self.assertRaises(InvalidOperation, call, ("within", "a", True))
+        self.assertEqual(desk.pins, (("within", "a", 1),))
+        self.assertEqual(desk.unpin(("within", "a", 1)), ())
+
     def test_the_order_of_pins(self):
         desk = desk_with(b=RANKS, a=RANKS)
         for pin in (("good", "b"), ("within", "a", 9), ("good", "a"), ("within", "b", 3)):
@@ -337,6 +345,7 @@ class PinsTest(unittest.TestCase):
         for pin in (("within", "a", 3), ("within", "c", 3), None):
             self.assertRaises(InvalidOperation, desk.pin, pin)
         self.assertEqual(history(desk), before)
+        self.assertRaises(InvalidOperation, desk.unpin, ("within", "a", 11))
         desk.unpin(("within", "a", 7))
         self.assertEqual(desk.pin(("within", "a", 11)), ())
         self.assertEqual([pin[2] for pin in desk.pins], [3, 4, 5, 6, 8, 9, 10, 11])
@@ -421,7 +430,7 @@ class TrialTest(unittest.TestCase):
         wrong = odd_values() + [
             ("enter",), ("enter", "b"), ("enter", "b", RANKS, 1), ["enter", "b", RANKS], ("remove",), ("remove", "a", 1), ("give", "a", LOW),
             ("lengthen",), ("lengthen", "a", 1), ("narrow", "a"), ("pin",), ("pin", "good", "a"), ("unpin",), ("undo",), ("redo",),
-            ("undo", 1), ("trial",), ("twin",), (("enter",), "b", RANKS), (1, "a"), ("Enter", "b", RANKS), ("", "a"), "lengthen a"]
+            ("undo", 1), (["remove"], "a"), ({}, "a"), ("trial",), ("twin",), (("enter",), "b", RANKS), (1, "a"), ("Enter", "b", RANKS), ("", "a"), "lengthen a"]
         for change in wrong:
             with self.subTest(change=change):
                 self.assertRaises(InvalidOperation, desk.trial, change)

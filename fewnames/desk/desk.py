@@ -94,25 +94,11 @@ class Desk:
 
     def undo(self, *, many=1):
         """Takes the last changes back, so many, and returns the news."""
-        check_many(many)
-        if many > len(self._past):
-            raise NothingToUndo(many)
-        grades = self._grades
-        for _ in range(many):
-            self._future.append(self._state())
-            self._restore(self._past.pop())
-        return news_between(grades, self._grades)
+        return self._step(many, self._past, self._future)
 
     def redo(self, *, many=1):
         """Makes the last changes again that were taken back, so many, and returns the news."""
-        check_many(many)
-        if many > len(self._future):
-            raise NothingToUndo(many)
-        grades = self._grades
-        for _ in range(many):
-            self._past.append(self._state())
-            self._restore(self._future.pop())
-        return news_between(grades, self._grades)
+        return self._step(many, self._future, self._past)
 
     def twin(self):
         """An equal desk with equal histories that goes on by itself."""
@@ -130,9 +116,20 @@ class Desk:
         """Puts all in place of what is there."""
         self._programs, self._grades, self._pins = state
 
+    def _step(self, many, ahead, behind):
+        """Goes so many states ahead, leaves the ones that it comes from behind, and returns the news."""
+        check_many(many)
+        if many > len(ahead):
+            raise NothingToUndo(many)
+        grades = self._grades
+        for _ in range(many):
+            behind.append(self._state())
+            self._restore(ahead.pop())
+        return news_between(grades, self._grades)
+
     def _check_there(self, name):
         """Refuses a name that no program has."""
-        if not is_name(name) or name not in self._programs:
+        if name not in self:
             raise UnknownName(name)
 
     def _check_pin(self, pin):
@@ -164,7 +161,7 @@ class Desk:
         return news
 
     def __getitem__(self, name):
-        if not is_name(name) or name not in self._programs:
+        if name not in self:
             raise UnknownName(name)
         return self._programs[name]
 

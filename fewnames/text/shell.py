@@ -24,9 +24,6 @@ FORMS = {
 # What stands behind the kind of each pin.
 PIN_FORMS = {"good": ("name",), "within": ("name", "new name"), "choice": ("name",), "below": ("name", "name")}
 
-# Texts of these kinds can have blanks, so they go on to the end of the command.
-LONG_KINDS = ("program", "run", "group")
-
 NOTHING = "none"
 
 
@@ -97,7 +94,8 @@ def read_pin(words):
 def arguments_in(form, words):
     """What the words say, by the kinds in the form."""
     texts = words
-    if form and form[-1] in LONG_KINDS:
+    if len(words) > len(form) > 0:
+        # The last text goes on to the end, since those of programs, runs and groups can have blanks.
         texts = words[:len(form) - 1] + [" ".join(words[len(form) - 1:])]
     if len(texts) != len(form):
         raise ParseError(None)
